@@ -1,0 +1,1 @@
+"""Firstmeans: what is known of a lot by its first means."""

@@ -1,0 +1,144 @@
+"""The form of the code: the names and arguments of the interface, and rules that can be checked by its syntax."""
+
+import ast
+import importlib
+import inspect
+import pathlib
+import unittest
+
+PACKAGE = pathlib.Path(__file__).resolve().parent.parent / "firstmeans"
+
+FUNCTIONS = {
+    "ratios": {"as_ratio": "(given)", "read_ratio": "(text)", "total": "(numbers)"},
+    "scales": {
+        "is_lot": "(scale, value)", "is_curve": "(scale, value)", "mean": "(scale, lot, curve)",
+        "means_of": "(scale, lot, count)", "uses": "(scale, lot)",
+    },
+}
+METHODS = {
+    ("ratios", "Ratio"): {
+        "__init__": "(self, top, bottom=1)", "__add__": "(self, other)", "__sub__": "(self, other)",
+        "__mul__": "(self, other)", "__neg__": "(self)", "__eq__": "(self, other)", "__lt__": "(self, other)",
+        "__le__": "(self, other)", "over": "(self, number)", "text": "(self)",
+    },
+    ("scales", "Scale"): {
+        "__init__": "(self, values)", "__len__": "(self)", "__eq__": "(self, other)", "marks": "(self)",
+        "place": "(self, value)", "led": "(self, factor, add)", "text": "(self)", "read": "(cls, text)",
+    },
+}
+CALLED = (
+    "len range enumerate zip min max sum abs sorted reversed int str bool list tuple dict set isinstance ord repr any "
+    "all divmod getattr hasattr setattr iter next super map"
+).split()
+LIBRARY = {"math": "gcd lcm isqrt comb perm factorial", "itertools": "product combinations permutations chain "
+           "accumulate pairwise islice zip_longest", "heapq": "heappush heappop heapify heapreplace heappushpop",
+           "collections": "defaultdict deque"}
+BANNED = (ast.AsyncFunctionDef, ast.Await, ast.Import, ast.Div, ast.MatMult)
+
+
+def trees():
+    return [(path, ast.parse(path.read_text("ascii"))) for path in sorted(PACKAGE.glob("**/*.py"))]
+
+
+def called(name):
+    return importlib.import_module("firstmeans." + name)
+
+
+def defined(module):
+    """The names that a file of the package itself defines."""
+    names = set()
+    for node in ast.parse((PACKAGE / (module + ".py")).read_text("ascii")).body:
+        if isinstance(node, (ast.FunctionDef, ast.ClassDef)):
+            names.add(node.name)
+        elif isinstance(node, ast.Assign):
+            names.update(target.id for target in node.targets)
+    return names
+
+
+class Interface(unittest.TestCase):
+    def test_functions(self):
+        for module, wanted in FUNCTIONS.items():
+            for name, arguments in wanted.items():
+                function = getattr(called(module), name)
+                self.assertTrue(inspect.isfunction(function))
+                self.assertEqual(function.__module__, "firstmeans." + module)
+                self.assertEqual(str(inspect.signature(function)), arguments)
+
+    def test_methods_stand_in_their_class(self):
+        for (module, name), wanted in METHODS.items():
+            kind = getattr(called(module), name)
+            self.assertEqual(kind.__module__, "firstmeans." + module)
+            for method, arguments in wanted.items():
+                self.assertIn(method, vars(kind))
+                function = getattr(vars(kind)[method], "__func__", vars(kind)[method])
+                self.assertEqual(str(inspect.signature(function)), arguments)
+
+    def test_read_is_a_class_method(self):
+        self.assertIsInstance(vars(called("scales").Scale)["read"], classmethod)
+
+    def test_errors_stand_in_their_file(self):
+        for name, kind in vars(called("errors")).items():
+            if isinstance(kind, type):
+                self.assertEqual((kind.__module__, kind.__name__), ("firstmeans.errors", name))
+
+
+class Form(unittest.TestCase):
+    def test_the_package_is_flat_and_holds_code_only(self):
+        found = [path for path in PACKAGE.iterdir() if path.name != "__pycache__"]
+        self.assertEqual([path for path in found if path.suffix != ".py" or not path.is_file()], [])
+        self.assertIn(PACKAGE / "__init__.py", found)
+
+    def test_sizes_and_signs(self):
+        for path in PACKAGE.glob("**/*.py"):
+            text = path.read_bytes()
+            self.assertTrue(all(sign == 10 or 32 <= sign <= 126 for sign in text), path)
+            rows = text.split(b"\n")
+            self.assertLessEqual(len(rows) - 1, 399, path)
+            self.assertLessEqual(max(len(row) for row in rows), 120, path)
+
+    def test_functions_are_short(self):
+        for path, tree in trees():
+            for node in ast.walk(tree):
+                if isinstance(node, ast.FunctionDef):
+                    self.assertLessEqual(node.end_lineno - node.lineno + 1, 40, (path, node.name))
+
+    def test_nothing_of_what_is_barred(self):
+        for path, tree in trees():
+            for node in ast.walk(tree):
+                where = (path.name, getattr(node, "lineno", None))
+                self.assertNotIsInstance(node, BANNED, where)
+                if isinstance(node, ast.Constant):
+                    self.assertNotIsInstance(node.value, (float, complex), where)
+
+    def test_imports(self):
+        for path, tree in trees():
+            for node in ast.walk(tree):
+                if not isinstance(node, ast.ImportFrom):
+                    continue
+                where = (path.name, node.lineno)
+                self.assertEqual([name.asname for name in node.names], [None] * len(node.names), where)
+                names = {name.name for name in node.names}
+                if node.module in LIBRARY:
+                    self.assertLessEqual(names, set(LIBRARY[node.module].split()), where)
+                else:
+                    folder, module = node.module.split(".")
+                    self.assertEqual((folder, node.level), ("firstmeans", 0), where)
+                    self.assertLessEqual(names, defined(module), where)
+
+    def test_no_builtin_but_those_of_the_subset(self):
+        builtin = set(dir(importlib.import_module("builtins")))
+        for path, tree in trees():
+            for node in ast.walk(tree):
+                if isinstance(node, ast.Call) and isinstance(node.func, ast.Name) and node.func.id in builtin:
+                    self.assertIn(node.func.id, CALLED, (path.name, node.lineno))
+
+    def test_no_builtin_gets_another_meaning(self):
+        builtin = set(dir(importlib.import_module("builtins")))
+        for path, tree in trees():
+            for node in ast.walk(tree):
+                taken = None
+                if isinstance(node, ast.Name) and isinstance(node.ctx, ast.Store):
+                    taken = node.id
+                elif isinstance(node, ast.arg):
+                    taken = node.arg
+                self.assertNotIn(taken, builtin, (path.name, getattr(node, "lineno", None)))
