@@ -14,6 +14,28 @@ FUNCTIONS = {
         "is_lot": "(scale, value)", "is_curve": "(scale, value)", "mean": "(scale, lot, curve)",
         "means_of": "(scale, lot, count)", "uses": "(scale, lot)",
     },
+    "curves": {
+        "power": "(scale, exponent)", "cover": "(scale, threshold)", "cap": "(scale, limit)",
+        "step": "(scale, threshold)", "summed": "(curves, weights)",
+    },
+    "bends": {
+        "divided": "(scale, curve, places)", "bends_up": "(scale, curve, order)", "bends_down": "(scale, curve, order)",
+        "orders_up": "(scale, curve)", "orders_down": "(scale, curve)", "stencil": "(scale, place, order)",
+        "dual": "(scale, place, order)", "through": "(scale, places, numbers)", "curve_of": "(scale, polynomial)",
+        "lies_under": "(one, other)", "parted": "(scale, curve, order)",
+        "put_together": "(scale, order, polynomial, weights)",
+    },
+    "known": {
+        "mean_by": "(scale, means, polynomial)", "has": "(scale, means, lot)", "some_lot": "(scale, means)",
+        "bar": "(scale, means)", "is_bar": "(scale, means, value)", "corners": "(scale, means)",
+        "edge": "(scale, means)", "is_edge": "(scale, means, value)", "is_sole": "(scale, means)",
+    },
+    "extremes": {
+        "low": "(scale, means)", "high": "(scale, means)", "is_low": "(scale, means, value)",
+        "is_high": "(scale, means, value)", "bounds": "(scale, means, curve)", "under": "(scale, means, curve)",
+        "over": "(scale, means, curve)", "is_under": "(scale, means, curve, value)",
+        "is_over": "(scale, means, curve, value)", "low_forms": "(scale, count)", "high_forms": "(scale, count)",
+    },
 }
 METHODS = {
     ("ratios", "Ratio"): {
@@ -141,4 +163,37 @@ class Form(unittest.TestCase):
                     taken = node.id
                 elif isinstance(node, ast.arg):
                     taken = node.arg
+                elif isinstance(node, ast.FunctionDef):
+                    taken = node.name
                 self.assertNotIn(taken, builtin, (path.name, getattr(node, "lineno", None)))
+
+    def test_nothing_is_sorted_that_may_hold_ratios(self):
+        for path, tree in trees():
+            for node in ast.walk(tree):
+                where = (path.name, getattr(node, "lineno", None))
+                if isinstance(node, ast.Call) and isinstance(node.func, ast.Name):
+                    self.assertNotIn(node.func.id, ("sorted", "min", "max"), where)
+                elif isinstance(node, ast.Attribute):
+                    self.assertNotEqual(node.attr, "sort", where)
+
+    def test_no_variable_has_the_name_of_an_import_or_a_class_of_its_file(self):
+        for path, tree in trees():
+            taken = {name.name for node in tree.body if isinstance(node, ast.ImportFrom) for name in node.names}
+            taken |= {node.name for node in tree.body if isinstance(node, ast.ClassDef)}
+            for node in ast.walk(tree):
+                if isinstance(node, ast.Name) and isinstance(node.ctx, ast.Store):
+                    self.assertNotIn(node.id, taken, (path.name, node.lineno))
+                elif isinstance(node, ast.arg):
+                    self.assertNotIn(node.arg, taken, (path.name, node.lineno))
+            functions = [node.name for node in tree.body if isinstance(node, ast.FunctionDef)]
+            self.assertEqual(len(functions), len(set(functions) - taken), path.name)
+
+    def test_no_two_files_import_from_each_other(self):
+        imports = {}
+        for path, tree in trees():
+            names = [node.module for node in ast.walk(tree) if isinstance(node, ast.ImportFrom)]
+            imports[path.stem] = {name.split(".")[1] for name in names if name.startswith("firstmeans.")}
+        while imports:
+            free = [stem for stem, needed in imports.items() if not needed & set(imports)]
+            self.assertGreater(len(free), 0, imports)
+            imports = {stem: needed for stem, needed in imports.items() if stem not in free}

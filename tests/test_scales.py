@@ -6,7 +6,7 @@ from firstmeans import errors, ratios, scales
 from firstmeans.errors import BadCount, BadCurve, BadLot, BadNumber, BadText, BadValues, NoValue
 from firstmeans.ratios import Ratio
 from firstmeans.scales import Scale, is_curve, is_lot, mean, means_of, uses
-from tests.helpers import Case, half, odd_values, strange_values, texts
+from tests.helpers import Case, half, odd_values, strange_values, texts, trio, wrong_counts, wrong_curves, wrong_lots
 
 EXAMPLES = """
     >>> scale = Scale([2, 0, Ratio(1, 2)])
@@ -18,35 +18,6 @@ EXAMPLES = """
     >>> scale.place(1)
     raises NoValue(1)
 """
-
-NOT_A_LIST_OF_NUMBERS = [7, 0, Ratio(1, 2), -1]
-
-
-def trio():
-    return Scale([0, 1, 3])
-
-
-def wrong_lots():
-    """Values that are no lot of a scale of three values."""
-    return odd_values() + NOT_A_LIST_OF_NUMBERS + [
-        [], [1], [half(1), half(1)], [1, 0, 0, 0], [0, 0, 0], [1, 1, 0], [half(1), half(1), half(1)],
-        [half(1), 0, Ratio(1, 3)], [-1, 1, 1], [2, -1, 0], [half(3), 0, half(-1)], [True, 0, 0], [0, False, 1],
-        [1, 0, None], [1, 0, "0"], [[1, 0, 0]], "100", {"0": 1, "1": 0, "3": 0}, [[1], [0], [0]], ((), (), ()),
-        (1, 0), (1, 0, 0, 0), (1, True, 0),
-    ]
-
-
-def wrong_curves():
-    """Values that are no curve of a scale of three values."""
-    return odd_values() + NOT_A_LIST_OF_NUMBERS + [
-        [], [1], [1, 2], [1, 2, 3, 4], (1, 2), [1, 2, True], [False, 1, 2], [1, None, 2], [1, "2", 3], [[1, 2, 3]],
-        [1, [2], 3], "123", {"a": 1, "b": 2, "c": 3},
-    ]
-
-
-def wrong_counts(most):
-    """Values that are no integer from 0 to the most."""
-    return odd_values() + [-1, -9, most + 1, 10 ** 50, -(10 ** 50), Ratio(1), Ratio(0), half(1), Ratio(most), [1], (1,)]
 
 
 class Scales(Case):
