@@ -4,8 +4,8 @@ from itertools import combinations
 
 from firstmeans.errors import BadMeans, BadPolynomial, NoLot
 from firstmeans.polynomials import is_polynomial, value_at, values_at, with_roots
-from firstmeans.ratios import Ratio, are_numbers, as_ratio, total
-from firstmeans.scales import check_lot, means_of
+from firstmeans.ratios import Ratio, are_numbers, opposites, weighed
+from firstmeans.scales import check_lot, insert_new, means_of
 from firstmeans.shapes import high_shapes, low_shapes
 
 MOST_MEANS = 4
@@ -26,7 +26,7 @@ def check_some_lot(scale, means):
 
 def by_means(means, polynomial):
     """The mean of a polynomial by the means, which are enough for its coefficients."""
-    return total([as_ratio(coefficient) * number for coefficient, number in zip(polynomial, [1, *means])])
+    return weighed(polynomial, [1, *means])
 
 
 def walls(scale, count):
@@ -40,7 +40,7 @@ def walls(scale, count):
     marks = scale.marks()
     found = [with_roots([marks[place] for place in shape]) for shape in low_shapes(len(marks), count - 1)]
     for shape in high_shapes(len(marks), count - 1):
-        found.append([-coefficient for coefficient in with_roots([marks[place] for place in shape])])
+        found.append(opposites(with_roots([marks[place] for place in shape])))
     return found
 
 
@@ -114,15 +114,6 @@ def is_bar(scale, means, value):
     """Whether any value is a bar of the means."""
     check_means(scale, means)
     return is_above(scale, value, len(means)) and by_means(means, value) < 0
-
-
-def insert_new(lots, lot):
-    """Insert a lot into an ascending list of lots, unless it is there."""
-    place = 0
-    while place < len(lots) and lots[place] < lot:
-        place += 1
-    if place == len(lots) or lots[place] != lot:
-        lots.insert(place, lot)
 
 
 def corners(scale, means):

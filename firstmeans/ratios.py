@@ -102,6 +102,16 @@ def total(numbers):
     return reached
 
 
+def weighed(numbers, weights):
+    """The sum of the products of the numbers of two lists, place by place, as far as both go."""
+    return total([as_ratio(number) * weight for number, weight in zip(numbers, weights)])
+
+
+def opposites(numbers):
+    """The list of the opposite numbers."""
+    return [-as_ratio(number) for number in numbers]
+
+
 def read_ratio(text):
     """The Ratio that has a text."""
     head, slash, tail = text.partition("/")

@@ -1,7 +1,7 @@
 """Scales, and the lots and curves of a scale."""
 
 from firstmeans.errors import BadCount, BadCurve, BadLot, BadNumber, BadText, BadValues, NoValue
-from firstmeans.ratios import are_numbers, as_ratio, is_number, is_whole, read_ratio, total
+from firstmeans.ratios import are_numbers, as_ratio, is_number, is_whole, read_ratio, total, weighed
 
 MOST_VALUES = 8
 MOST_POWERS = 8
@@ -13,10 +13,9 @@ class Scale:
     def __init__(self, values):
         if not are_numbers(values) or not 1 <= len(values) <= MOST_VALUES:
             raise BadValues(values)
-        marks = ascending(values)
-        if not climbs(marks):
+        self._marks = distinct(values)
+        if len(self._marks) < len(values):
             raise BadValues(values)
-        self._marks = marks
 
     def __len__(self):
         return len(self._marks)
@@ -56,17 +55,22 @@ class Scale:
         return cls(marks)
 
 
-def ascending(numbers):
-    """The Ratios of a list of numbers, sorted."""
+def insert_new(ordered, item):
+    """Insert a Ratio, or a list or tuple of Ratios, into an ascending list of such, unless it is there."""
     # By hand, because Ratios, which also compare with integers, go beyond what may be sorted.
-    ordered = []
+    place = 0
+    while place < len(ordered) and ordered[place] < item:
+        place += 1
+    if place == len(ordered) or ordered[place] != item:
+        ordered.insert(place, item)
+
+
+def distinct(numbers):
+    """The ascending list of the Ratios of a list of numbers, each of them once."""
+    found = []
     for number in numbers:
-        ratio = as_ratio(number)
-        place = 0
-        while place < len(ordered) and ordered[place] < ratio:
-            place += 1
-        ordered.insert(place, ratio)
-    return ordered
+        insert_new(found, as_ratio(number))
+    return found
 
 
 def climbs(ratios):
@@ -79,11 +83,16 @@ def is_curve(scale, value):
     return are_numbers(value) and len(value) == len(scale)
 
 
-def is_lot(scale, value):
-    """Whether any value is a lot of a scale: shares from 0 on that sum to 1."""
-    if not is_curve(scale, value):
+def are_shares(value, many):
+    """Whether any value is a list of so many numbers from 0 on that sum to 1."""
+    if not are_numbers(value) or len(value) != many:
         return False
     return all([0 <= as_ratio(share).top for share in value]) and total(value) == 1
+
+
+def is_lot(scale, value):
+    """Whether any value is a lot of a scale: a share for each value."""
+    return are_shares(value, len(scale))
 
 
 def check_lot(scale, lot):
@@ -102,7 +111,7 @@ def mean(scale, lot, curve):
     """The mean of a curve for a lot."""
     check_lot(scale, lot)
     check_curve(scale, curve)
-    return total([as_ratio(share) * number for share, number in zip(lot, curve)])
+    return weighed(lot, curve)
 
 
 def means_of(scale, lot, count):

@@ -83,6 +83,26 @@ def wrong_means(scale):
     return found
 
 
+def wrong_places(size):
+    """Values that are no list of one or more ascending places of a scale of a size from 3 on."""
+    return odd_values() + [
+        [], (), 0, 1, "0", "01", [size], [0, size], [-1], [-1, 0], [-1, 0, 1], [1, 0], [2, 1, 0], [0, 0], (1, 1),
+        [0, 1, 1], [0, 2, 1], [0, True], [False, 1], [True], [Ratio(0)], [0, Ratio(1)], [half(1)], [0, None], [0, "1"],
+        [[0]], [[0], [1]], [10 ** 50], [0, 10 ** 50], {"0": 0}, list(range(size + 1)), (0, 1, -1),
+    ]
+
+
+def wrong_orders(most):
+    """Values that are no integer from 1 to the most."""
+    found = odd_values() + [0, -1, -2, most + 1, most + 5, 10 ** 50, -(10 ** 50)]
+    return found + [Ratio(1), Ratio(most), half(1), [1], (1,)]
+
+
+def wrong_numbers():
+    """Values that are no number."""
+    return odd_values() + [[], (), [1], (1,), [half(1)], [0, 0], {"top": 1, "bottom": 2}]
+
+
 def scales():
     """Scales of one value, of two and more, up to eight, with unlike steps, some below 0."""
     rows = [

@@ -11,7 +11,7 @@ from firstmeans.errors import BadCurve, BadNumbers, BadOrder, BadPlace, BadPlace
 from firstmeans.ratios import Ratio
 from firstmeans.scales import Scale
 from tests import helpers
-from tests.helpers import Case, half, odd_values, texts, trio, wrong_curves, wrong_lists
+from tests.helpers import Case, half, odd_values, texts, trio, wrong_curves, wrong_lists, wrong_orders, wrong_places
 from tests.plain import at_marks, plain, plains, slope, slopes
 
 EXAMPLES = """
@@ -35,21 +35,6 @@ POLYNOMIALS = [
 
 def eight():
     return Scale([-5, -2, half(-1), 0, Ratio(1, 3), 1, 4, 9])
-
-
-def wrong_places(size):
-    """Values that are no list of one or more ascending places of a scale of a size from 3 on."""
-    return odd_values() + [
-        [], (), 0, 1, "0", "01", [size], [0, size], [-1], [-1, 0], [-1, 0, 1], [1, 0], [2, 1, 0], [0, 0], (1, 1),
-        [0, 1, 1], [0, 2, 1], [0, True], [False, 1], [True], [Ratio(0)], [0, Ratio(1)], [half(1)], [0, None], [0, "1"],
-        [[0]], [[0], [1]], [10 ** 50], [0, 10 ** 50], {"0": 0}, list(range(size + 1)), (0, 1, -1),
-    ]
-
-
-def wrong_orders(most):
-    """Values that are no integer from 1 to the most."""
-    found = odd_values() + [0, -1, -2, most + 1, most + 5, 10 ** 50, -(10 ** 50)]
-    return found + [Ratio(1), Ratio(most), half(1), [1], (1,)]
 
 
 class Divided(Case):
