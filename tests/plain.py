@@ -72,3 +72,44 @@ def by_means(means, polynomial):
 
 def mean_for(lot, curve):
     return sum(share * number for share, number in zip(plains(lot), plains(curve)))
+
+
+def solved(rows, wanted):
+    """The numbers whose products with each row sum to what is wanted, or None unless there is just one list of them."""
+    size = len(rows)
+    table = [[*row, number] for row, number in zip(rows, wanted)]
+    for at in range(size):
+        pivot = next((k for k in range(at, size) if table[k][at] != 0), None)
+        if pivot is None:
+            return None
+        table[at], table[pivot] = table[pivot], table[at]
+        table[at] = [item / table[at][at] for item in table[at]]
+        for k in range(size):
+            if k != at:
+                table[k] = [item - table[at][j] * table[k][at] for j, item in enumerate(table[k])]
+    return [row[-1] for row in table]
+
+
+def plain_claims(facts):
+    """The claims of facts, each as the list of how far its curve is above its number."""
+    found = []
+    for word, curve, number in facts:
+        heights = [height - plain(number) for height in plains(curve)]
+        if word in ("is", "at most"):
+            found.append(heights)
+        if word in ("is", "at least"):
+            found.append([-height for height in heights])
+    return found
+
+
+def fitting_corners(scale, facts):
+    """The corners of all lots that fit facts, from the equations for all choices of limits that may be reached."""
+    size = len(scale)
+    claims = plain_claims(facts)
+    limits = [[Fraction(int(at == place)) for at in range(size)] for place in range(size)] + claims
+    found = set()
+    for chosen in combinations(limits, size - 1):
+        lot = solved([[Fraction(1)] * size, *chosen], [Fraction(1)] + [Fraction(0)] * (size - 1))
+        if lot is not None and min(lot) >= 0 and all(mean_for(lot, heights) <= 0 for heights in claims):
+            found.add(tuple(lot))
+    return [list(lot) for lot in sorted(found)]

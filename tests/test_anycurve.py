@@ -1,4 +1,4 @@
-"""Any curve: the least and the greatest mean [60] [61], chances [62], values used surely and never [63], the ends [64]."""
+"""Any curve: least and greatest means [60] [61], chances [62], values used surely or never [63], the ends [64]."""
 
 from itertools import combinations
 
@@ -18,7 +18,7 @@ from tests.helpers import (
     Case, half, means_that_lots_have, means_that_no_lot_has, strange_values, texts, trio, wrong_curves, wrong_lists,
     wrong_means, wrong_places,
 )
-from tests.plain import all_corners, at_marks, by_means, mean_for, plain, plains
+from tests.plain import all_corners, at_marks, by_means, mean_for, plains
 
 EXAMPLES = """
     >>> scale = Scale([0, 1, 2])

@@ -45,6 +45,22 @@ FUNCTIONS = {
         "next_range": "(scale, means)", "least_line": "(scale, means, curve)", "greatest_line": "(scale, means, curve)",
         "at_next": "(scale, means, curve, number)", "next_for": "(scale, means, curve, bound)",
     },
+    "sums": {
+        "mixture": "(scale, lots, shares)", "added": "(scale, lot, other_scale, other)",
+        "added_means": "(means, others)", "led_lot": "(scale, lot, factor, add)", "finer": "(scale, values)",
+        "finer_lot": "(scale, values, lot)",
+    },
+    "toldback": {
+        "covers": "(scale, lot)", "lot_of_covers": "(scale, prices)", "fault": "(scale, prices)",
+        "claims": "(scale, facts)", "fitting": "(scale, facts)", "clash": "(scale, facts)",
+        "is_clash": "(scale, facts, value)", "sure_bounds": "(scale, facts, curve)", "needless": "(scale, facts)",
+    },
+    "kinds": {
+        "all_under": "(scale, means, others, order)", "against": "(scale, means, others, order)",
+        "is_against": "(scale, means, others, order, value)", "least_rise": "(scale, means, others, curve)",
+        "greatest_rise": "(scale, means, others, curve)", "both": "(scale, means, others, share)",
+    },
+    "desk": {"read_desk": "(text)"},
     "extremes": {
         "low": "(scale, means)", "high": "(scale, means)", "is_low": "(scale, means, value)",
         "is_high": "(scale, means, value)", "bounds": "(scale, means, curve)", "under": "(scale, means, curve)",
@@ -61,6 +77,13 @@ METHODS = {
     ("scales", "Scale"): {
         "__init__": "(self, values)", "__len__": "(self)", "__eq__": "(self, other)", "marks": "(self)",
         "place": "(self, value)", "led": "(self, factor, add)", "text": "(self)", "read": "(cls, text)",
+    },
+    ("desk", "Desk"): {
+        "__init__": "(self, scale)", "__len__": "(self)", "tell": "(self, number)", "name": "(self, word, curve)",
+        "drop": "(self, word)", "put": "(self, value, numbers)", "scale": "(self)", "means": "(self)",
+        "names": "(self)", "curve": "(self, word)", "bounds": "(self, word)", "line": "(self, word)",
+        "next": "(self)", "ends": "(self)", "settled": "(self)", "undo": "(self)", "redo": "(self)",
+        "tried": "(self, act)", "twin": "(self)", "text": "(self)",
     },
 }
 CALLED = (
